@@ -1,0 +1,36 @@
+"""The interface: each name, and the names of what is handed in."""
+
+import importlib
+import inspect
+import unittest
+
+INTERFACE = {
+    "webs": {
+        "is_whole": "thing", "is_figure": "thing", "is_name": "thing", "is_web": "thing", "web_of": "thing",
+        "above": "web arm", "beneath": "web kind", "stands": "web kind other",
+    },
+    "kin": {
+        "road": "web kind other", "hedge": "web kind other",
+        "is_road": "web kind other thing", "is_hedge": "web kind other thing",
+    },
+    "books": {
+        "is_book": "thing", "book_of": "web places rules", "fits": "web kinds call", "nearer": "web one other",
+    },
+}
+
+
+class TestInterface(unittest.TestCase):
+
+    def test_names_and_arguments(self):
+        for module, functions in INTERFACE.items():
+            loaded = importlib.import_module("bestcalls." + module)
+            for name, arguments in functions.items():
+                parameters = inspect.signature(getattr(loaded, name)).parameters.values()
+                self.assertEqual([one.name for one in parameters], arguments.split(), name)
+                for one in parameters:
+                    self.assertEqual(one.kind, inspect.Parameter.POSITIONAL_OR_KEYWORD)
+                    self.assertEqual(one.default, inspect.Parameter.empty)
+
+
+if __name__ == "__main__":
+    unittest.main()
