@@ -79,6 +79,11 @@ def check_call(web, places, call):
     check_kinds(web, names_in_call(call))
 
 
+def roofs_in_call(roofs, call):
+    """The roofs of a call's arms, place by place."""
+    return [roof_of(roofs, arm) for arm in call]
+
+
 def fits_under(kinds, call_roofs):
     """Whether kinds fit a call that has these roofs at its places."""
     return all([kind in roof for kind, roof in zip(kinds, call_roofs)])
@@ -94,8 +99,7 @@ def fits(web, kinds, call):
     if len(call) != len(kinds):
         raise NoCall(None)
     check_kinds(web, list(kinds) + names_in_call(call))
-    roofs = roofs_of(web)
-    return fits_under(kinds, [roof_of(roofs, arm) for arm in call])
+    return fits_under(kinds, roofs_in_call(roofs_of(web), call))
 
 
 def nearer(web, one, other):

@@ -109,6 +109,61 @@ def plain_nearer(web, one, other):
     return one != other and all(plain_stands(web, low, high) for low, high in zip(one, other))
 
 
+def plain_fitting(book, call):
+    web, _, rules = book
+    return [name for name, kinds in rules if plain_fits(web, kinds, call)]
+
+
+def plain_nearest_of(book, names):
+    """Of the rules of these names those than which none of them is nearer."""
+    kinds = dict(book[2])
+    return [name for name in names
+            if not any(plain_nearer(book[0], kinds[other], kinds[name]) for other in names)]
+
+
+def plain_answer_of(book, names):
+    """The answer among the rules of these names."""
+    near = plain_nearest_of(book, names)
+    if len(near) == 1:
+        return ("rule", near[0])
+    return ("quarrel", tuple(near)) if near else ("none",)
+
+
+def plain_answer(book, call):
+    return plain_answer_of(book, plain_fitting(book, call))
+
+
+def plain_to_come(web, sort):
+    """All kinds to come of the sort."""
+    names = [name for name, _ in web]
+    told = []
+    for size in range(2, len(names) + 1):
+        for arm in itertools.combinations(names, size):
+            apart = not any(plain_stands(web, one, other) for one, other in itertools.permutations(arm, 2))
+            if apart and any(set(arm) <= set(bundle) for bundle in sort):
+                told.append(arm)
+    return told
+
+
+def some_sorts(web, seed):
+    """Sorts of the web without bundles, with one and with two, the same ones each time."""
+    chance = random.Random(seed)
+    names = [name for name, _ in web]
+    sorts = [[]]
+    for bundles in (1, 2):
+        sorts.append([chance.sample(names, min(len(names), chance.randint(2, 5))) for _ in range(bundles)])
+    return sorts
+
+
+def some_calls(book, count, seed):
+    """Calls of the book, of names and of other arms, the same ones each time."""
+    chance = random.Random(seed)
+    names = [name for name, _ in book[0]]
+    arms = names * 2 + [(name,) for name in names]
+    arms += [tuple(chance.sample(names, chance.randint(1, min(3, len(names))))) for _ in names]
+    return [tuple(chance.choice(arms) for _ in range(book[1])) for _ in range(count)]
+
+
 class Refusals:
     """For test cases: how a refusal is looked at."""
 

@@ -16,6 +16,14 @@ INTERFACE = {
     "books": {
         "is_book": "thing", "book_of": "web places rules", "fits": "web kinds call", "nearer": "web one other",
     },
+    "answers": {"fitting": "book call", "nearest": "book call", "answer_of": "book call"},
+    "whys": {"why": "book call", "shows": "book call answer paper"},
+    "onward": {"onward": "book call name", "chain": "book call", "layers": "book call"},
+    "sorts": {
+        "is_sort": "web thing", "is_to_come": "web sort thing", "within": "web one other",
+        "meets": "web sort kind other",
+    },
+    "free": {"quarrel": "book sort"},
 }
 
 
