@@ -1,7 +1,8 @@
 """Books of rules, calls, and which kinds fit a call and are nearer than others."""
 
 from bestcalls.errors import NoBook, NoCall
-from bestcalls.webs import check_kinds, is_name, is_web, is_whole, names_in, names_of, roof_of, roofs_of, web_of
+from bestcalls.same import products
+from bestcalls.webs import check_kinds, copy_of_web, is_name, is_web, is_whole, names_in, names_of, roof_of, roofs_of
 
 MOST_PLACES = 3
 MOST_RULES = 12
@@ -14,6 +15,11 @@ def count_calls(web, places):
     for place in range(places):
         count *= len(web)
     return count
+
+
+def calls_of_names(web, places):
+    """All calls of names, by the web's order place by place, the last place changing first."""
+    return products([names_of(web)] * places)
 
 
 def has_room(web, places):
@@ -52,7 +58,7 @@ def book_of(web, places, rules):
         if number >= MOST_RULES or not is_rule_behind(known, places, ahead, rule):
             raise NoBook(number)
         ahead.append(rule)
-    return (web_of(web), places, ahead)
+    return (copy_of_web(web), places, ahead)
 
 
 def is_book(thing):

@@ -2,6 +2,7 @@
 
 from bestcalls.answers import nearest
 from bestcalls.books import is_nearer
+from bestcalls.same import products
 from bestcalls.sorts import arms_of, meets_among
 
 
@@ -16,11 +17,7 @@ def pairs_apart(roofs, rules):
 
 def meeting_calls(arms, one, other):
     """The calls that have at each place one of the meets of the two kinds there, the last place changing first."""
-    calls = [()]
-    for kind, mate in zip(one, other):
-        choices = meets_among(arms, kind, mate)
-        calls = [call + (arm,) for call in calls for arm in choices]
-    return calls
+    return products([meets_among(arms, kind, mate) for kind, mate in zip(one, other)])
 
 
 def quarrelling_calls(arms, rules):

@@ -45,6 +45,11 @@ def is_kind_behind(ahead, thing):
     return are_unlike_of(ahead, elders)
 
 
+def copy_of_web(web):
+    """The same web with lists of its own."""
+    return [(name, list(elders)) for name, elders in web]
+
+
 def web_of(thing):
     """A web with lists of its own; refused with NoWeb."""
     if not isinstance(thing, list) or not thing:
@@ -54,7 +59,7 @@ def web_of(thing):
         if number >= MOST_KINDS or not is_kind_behind(ahead, entry):
             raise NoWeb(number)
         ahead.append(entry[0])
-    return [(name, list(elders)) for name, elders in thing]
+    return copy_of_web(thing)
 
 
 def is_web(thing):

@@ -82,6 +82,61 @@ def some_books(count, most=5, most_places=2, most_rules=6, seed=2):
     return books
 
 
+def some_pick(chance, names, places):
+    if chance.random() < 0.6:
+        return ("own", chance.randrange(places))
+    return ("new", chance.choice(names), chance.randint(-9, 9))
+
+
+def some_step(chance, names, places, deeds, number, back):
+    """A step for a rule of the deed of this number; how often it calls a deed that is not behind it hangs on back."""
+    behind = deeds[number + 1:]
+    calls = deeds if chance.random() < back else behind
+    word = chance.choice(["say", "tell", "call", "call", "onward"] if calls else ["say", "tell", "onward"])
+    if word == "say":
+        return ("say", chance.randint(-99, 99))
+    if word == "tell":
+        return ("tell", chance.randrange(places))
+    if word == "onward":
+        return ("onward",)
+    name, size = chance.choice(calls)
+    return ("call", name, [some_pick(chance, names, places) for _ in range(size)])
+
+
+def some_programs(count, most=4, most_rules=6, most_steps=3, back=0.15, seed=3):
+    """Programs with up to four deeds, the same ones each time."""
+    chance = random.Random(seed)
+    programs = []
+    for number, web in enumerate(some_webs(count, most, seed)):
+        names = [name for name, _ in web]
+        if chance.random() < 0.7:
+            # All kinds stand on the first one, so that more rules fit.
+            web = [(name, elders or names[:1] if name != names[0] else []) for name, elders in web]
+        sizes = [(name, chance.randint(1, 3)) for name in chance.sample(["do", "make", "a", "go"], number % 5)]
+        deeds = []
+        for place, (name, places) in enumerate(sizes):
+            every = list(itertools.product(names, repeat=places))
+            kinds = chance.sample(every, min(len(every), chance.randint(0, most_rules)))
+            # A rule for the first kinds of all fits most calls, so that not every run ends at once.
+            if (names[0],) * places not in kinds and chance.random() < 0.8:
+                kinds = [(names[0],) * places] + kinds[:most_rules - 1]
+            rules = []
+            for rule, some in zip(kind_names(len(kinds), 2), kinds):
+                steps = [some_step(chance, names, places, sizes, place, back)
+                         for _ in range(chance.randint(0, most_steps))]
+                rules.append((rule, some, steps))
+            deeds.append((name, places, rules))
+        programs.append((web, deeds))
+    return programs
+
+
+def some_things(program, places, count, seed):
+    """Lists of things for so many places, the same ones each time."""
+    chance = random.Random(seed)
+    names = [name for name, _ in program[0]]
+    return [[(chance.choice(names), chance.randint(-999, 999)) for _ in range(places)] for _ in range(count)]
+
+
 # Plain readings of the document, word by word and without regard to speed.
 
 def plain_stands(web, kind, other):
@@ -143,6 +198,97 @@ def plain_to_come(web, sort):
             if apart and any(set(arm) <= set(bundle) for bundle in sort):
                 told.append(arm)
     return told
+
+
+def plain_meets(web, sort, kind, other):
+    """The meets as the document says them, sought among all arms."""
+    names = [name for name, _ in web]
+    arms = [arm for arm in names + plain_to_come(web, sort)
+            if plain_arm_stands(web, arm, kind) and plain_arm_stands(web, arm, other)]
+    told = []
+    for arm in arms:
+        if not any(one != arm and set(plain_above(web, one)) <= set(plain_above(web, arm)) for one in arms):
+            told.append(arm)
+    rank = {name: number for number, name in enumerate(names)}
+    single = sorted([arm for arm in told if isinstance(arm, str)], key=rank.get)
+    return single + sorted([arm for arm in told if isinstance(arm, tuple)], key=lambda arm: [rank[name] for name in arm])
+
+
+def plain_quarrel(book, sort):
+    """A walk over all calls of the sort, and of those that quarrel the least as the document says it."""
+    web, places, rules = book
+    names = [name for name, _ in web]
+    rank = {name: number for number, name in enumerate(names)}
+    arms = names + sorted(plain_to_come(web, sort), key=lambda arm: [rank[name] for name in arm])
+    over = {arm: set(plain_above(web, arm)) for arm in arms}
+    nearer = {(one, other) for one in rules for other in rules if plain_nearer(web, one[1], other[1])}
+    found = []
+    for call in itertools.product(arms, repeat=places):
+        fit = [rule for rule in rules if all(kind in over[arm] for kind, arm in zip(rule[1], call))]
+        near = [rule for rule in fit if not any((one, rule) in nearer for one in fit)]
+        if len(near) > 1:
+            weight = sum(len(over[arm]) for arm in call)
+            to_come = sum(isinstance(arm, tuple) for arm in call)
+            found.append((weight, to_come, [arms.index(arm) for arm in call], call, tuple(name for name, _ in near)))
+    return min(found)[3:] if found else None
+
+
+class PlainRun:
+    """[29] to [31], word by word: the runs that last stand in a list, and steps are counted as they begin."""
+
+    def __init__(self, program):
+        self.web, deeds = program
+        self.rules = {name: rules for name, _, rules in deeds}
+        self.places = {name: places for name, places, _ in deeds}
+        self.met, self.lasting, self.begun = [], [], 0
+
+    def book(self, deed):
+        return (self.web, self.places[deed], [(name, kinds) for name, kinds, _ in self.rules[deed]])
+
+    def begin(self, deed, things, answer):
+        kinds = tuple(kind for kind, _ in things)
+        if answer[0] == "none":
+            raise PlainRefusal("NoFit", (deed, kinds))
+        if answer[0] == "quarrel":
+            raise PlainRefusal("Quarrel", (deed, kinds, answer[1]))
+        if len(self.lasting) == 40:
+            raise PlainRefusal("TooDeep", None)
+        self.lasting.append((deed, answer[1]))
+        self.met.append((deed, answer[1]))
+        steps = [steps for name, _, steps in self.rules[deed] if name == answer[1]][0]
+        total = sum([self.step(deed, things, answer[1], step) for step in steps])
+        self.lasting.pop()
+        return total
+
+    def step(self, deed, things, rule, step):
+        if self.begun == 400:
+            raise PlainRefusal("TooLong", None)
+        self.begun += 1
+        if step[0] in ("say", "tell"):
+            return step[1] if step[0] == "say" else things[step[1]][1]
+        if step[0] == "call":
+            return self.call(step[1], [things[pick[1]] if pick[0] == "own" else pick[1:] for pick in step[2]])
+        book, kinds = self.book(deed), tuple(kind for kind, _ in things)
+        own = dict(book[2])[rule]
+        farther = [name for name in plain_fitting(book, kinds) if plain_nearer(self.web, own, dict(book[2])[name])]
+        answer = plain_answer_of(book, farther)
+        return 0 if answer == ("none",) else self.begin(deed, things, answer)
+
+    def call(self, deed, things):
+        return self.begin(deed, things, plain_answer(self.book(deed), tuple(kind for kind, _ in things)))
+
+
+class PlainRefusal(Exception):
+    pass
+
+
+def plain_run(program, deed, things):
+    """What a run tells, or the name of the class and the `at` of its refusal."""
+    walk = PlainRun(program)
+    try:
+        return (walk.call(deed, things), walk.met)
+    except PlainRefusal as refusal:
+        return refusal.args
 
 
 def some_sorts(web, seed):

@@ -5,27 +5,7 @@ import itertools
 import unittest
 
 from bestcalls.free import quarrel
-from helper import (
-    DIAMOND, Refusals, kind_names, loose_web, plain_above, plain_nearer, plain_to_come, some_books, some_sorts)
-
-
-def plain_quarrel(book, sort):
-    """A walk over all calls of the sort, and of those that quarrel the least as the document says it."""
-    web, places, rules = book
-    names = [name for name, _ in web]
-    rank = {name: number for number, name in enumerate(names)}
-    arms = names + sorted(plain_to_come(web, sort), key=lambda arm: [rank[name] for name in arm])
-    over = {arm: set(plain_above(web, arm)) for arm in arms}
-    nearer = {(one, other) for one in rules for other in rules if plain_nearer(web, one[1], other[1])}
-    found = []
-    for call in itertools.product(arms, repeat=places):
-        fit = [rule for rule in rules if all(kind in over[arm] for kind, arm in zip(rule[1], call))]
-        near = [rule for rule in fit if not any((one, rule) in nearer for one in fit)]
-        if len(near) > 1:
-            weight = sum(len(over[arm]) for arm in call)
-            to_come = sum(isinstance(arm, tuple) for arm in call)
-            found.append((weight, to_come, [arms.index(arm) for arm in call], call, tuple(name for name, _ in near)))
-    return min(found)[3:] if found else None
+from helper import DIAMOND, Refusals, kind_names, loose_web, plain_quarrel, some_books, some_sorts
 
 
 class TestQuarrel(unittest.TestCase, Refusals):

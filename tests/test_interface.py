@@ -24,6 +24,11 @@ INTERFACE = {
         "meets": "web sort kind other",
     },
     "free": {"quarrel": "book sort"},
+    "papers": {"free_paper": "book sort", "shows_free": "book sort paper"},
+    "enders": {"enders": "book", "ends": "book thing"},
+    "programs": {"is_program": "thing", "program_of": "web deeds", "book_in": "program deed"},
+    "walker": {"run": "program deed things"},
+    "tables": {"tables_of": "program"},
 }
 
 

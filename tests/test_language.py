@@ -30,6 +30,11 @@ BARRED_NAMES = set(
     "copyright credits delattr dir eval exec exit gc getattr globals hasattr help id importlib license locals "
     "methodcaller os quit setattr super type vars sys".split())
 
+BARRED_ATTRIBUTES = set(
+    "items keys values pop update append clear extend insert remove reverse setdefault sort args encode decode hex "
+    "fromhex format as_integer_ratio bit_count conjugate from_bytes is_integer to_bytes real imag numerator "
+    "denominator".split())
+
 BARRED_NODES = (
     ast.With, ast.AsyncWith, ast.AsyncFor, ast.AsyncFunctionDef, ast.Await, ast.Global, ast.Nonlocal, ast.Yield,
     ast.YieldFrom, ast.Match, ast.GeneratorExp, ast.NamedExpr, ast.Import, ast.Div, ast.MatMult, ast.TypeIgnore)
@@ -167,6 +172,43 @@ class TestLanguage(unittest.TestCase):
                 for name in bound:
                     self.assertRegex(name, r"^[A-Za-z][A-Za-z0-9_]*$", where)
                     self.assertNotIn(name, BARRED_NAMES, where)
+
+    def test_attributes(self):
+        methods, attributes = set(), set()
+        for _, tree in trees():
+            for node in ast.walk(tree):
+                if isinstance(node, ast.ClassDef):
+                    methods |= {part.name for part in node.body if isinstance(part, ast.FunctionDef)}
+                if isinstance(node, ast.Attribute) and isinstance(node.ctx, ast.Store):
+                    attributes.add(node.attr)
+        self.assertEqual(methods & attributes, set())
+        for path, tree in trees():
+            called = {id(node.func) for node in ast.walk(tree) if isinstance(node, ast.Call)}
+            for node in ast.walk(tree):
+                if isinstance(node, ast.Attribute) and id(node) not in called:
+                    self.assertIn(node.attr, attributes, (path.name, node.lineno))
+        # Those that the interface asks a hall and a desk to have as methods, and those of values.
+        later = {"kind", "deed", "rule", "drop", "unkind", "program", "ask", "kept", "reckoned", "run", "say"}
+        self.assertEqual(attributes & (later | BARRED_ATTRIBUTES), set())
+
+    def test_errors(self):
+        for path, tree in trees():
+            for node in ast.walk(tree):
+                where = (path.name, getattr(node, "lineno", 0))
+                if isinstance(node, ast.Raise):
+                    self.assertIsInstance(node.exc, ast.Call, where)
+                    self.assertIsInstance(node.exc.func, ast.Name, where)
+                if isinstance(node, ast.ExceptHandler):
+                    self.assertNotIn(getattr(node.type, "id", ""), BUILTINS, where)
+
+    def test_sets(self):
+        for path, tree in trees():
+            for node in ast.walk(tree):
+                if isinstance(node, (ast.For, ast.comprehension)):
+                    where = (path.name, node.iter.lineno)
+                    self.assertNotIsInstance(node.iter, (ast.Set, ast.SetComp), where)
+                    if isinstance(node.iter, ast.Call):
+                        self.assertNotEqual(getattr(node.iter.func, "id", ""), "set", where)
 
     def test_methods(self):
         own = set()

@@ -7,8 +7,8 @@ import unittest
 from bestcalls.errors import NoKind
 from bestcalls.sorts import is_sort, is_to_come, meets, within
 from helper import (
-    ANYTHING, DIAMOND, Refusals, loose_web, plain_above, plain_arm_stands, plain_to_come, some_sorts, some_webs,
-    spoiled)
+    ANYTHING, DIAMOND, Refusals, loose_web, plain_above, plain_arm_stands, plain_meets, plain_to_come, some_sorts,
+    some_webs, spoiled)
 
 
 def plain_sort(web, thing):
@@ -19,20 +19,6 @@ def plain_sort(web, thing):
     if not all(type(name) is str and name in dict(web) for name in names):
         return False
     return all(len(bundle) <= 5 and len(set(bundle)) == len(bundle) for bundle in thing)
-
-
-def plain_meets(web, sort, kind, other):
-    """The meets as the document says them, sought among all arms."""
-    names = [name for name, _ in web]
-    arms = [arm for arm in names + plain_to_come(web, sort)
-            if plain_arm_stands(web, arm, kind) and plain_arm_stands(web, arm, other)]
-    told = []
-    for arm in arms:
-        if not any(one != arm and set(plain_above(web, one)) <= set(plain_above(web, arm)) for one in arms):
-            told.append(arm)
-    rank = {name: number for number, name in enumerate(names)}
-    single = sorted([arm for arm in told if isinstance(arm, str)], key=rank.get)
-    return single + sorted([arm for arm in told if isinstance(arm, tuple)], key=lambda arm: [rank[name] for name in arm])
 
 
 class TestSorts(unittest.TestCase, Refusals):
