@@ -21,3 +21,20 @@ def numbered(marks):
 def firsts_of(names, row):
     """The first name of each group, where row has the number of each name's group."""
     return [names[row.index(number)] for number in range(max(row) + 1)]
+
+
+def cell_at(names, groups, cells, kinds):
+    """The cell for kinds, where groups has for each place, and each of the names, the number of its group."""
+    number = 0
+    for row, kind in zip(groups, kinds):
+        number = number * (max(row) + 1) + row[names.index(kind)]
+    return cells[number]
+
+
+def same(one, other):
+    """Whether two things are the same through and through, a truth and a whole number never."""
+    if one != other or isinstance(one, bool) != isinstance(other, bool):
+        return False
+    if isinstance(one, (list, tuple)):
+        return all([same(part, mate) for part, mate in zip(one, other)])
+    return True

@@ -1,4 +1,4 @@
-"""Sample programs at the edges that the document names, for the walker and the machine."""
+"""Sample programs at the edges that the document names, for the walker, the machine and the texts."""
 
 import itertools
 
@@ -77,3 +77,14 @@ def long_and_deep(count):
         ("mid", 1, [("r", ("a",), calls("low", 5) + says(1))]),
         ("low", 1, [("r", ("a",), calls("leaf", 5) + says(1))]),
         ("leaf", 1, [("r", ("a",), says(5))])])
+
+
+# As large as a program can be: names of eight letters, four elders, twelve rules, six steps, thirty figures.
+LONG_NAMES = ["kindabc" + letter for letter in "abcdef"]
+FULL = ([(name, LONG_NAMES[:number][-4:]) for number, name in enumerate(LONG_NAMES)], [
+    ("deedabc" + letter, 3, [
+        ("ruleab" + "abcdefghijkl"[number] + letter, kinds, [
+            ("call", "deedabc" + "abcd"[step % 4], [("new", name, -MOST) for name in LONG_NAMES[step % 4:][:3]])
+            for step in range(6)])
+        for number, kinds in enumerate(list(itertools.product(LONG_NAMES, repeat=3))[5:][::17][:12])])
+    for letter in "abcd"])

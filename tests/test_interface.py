@@ -29,6 +29,16 @@ INTERFACE = {
     "programs": {"is_program": "thing", "program_of": "web deeds", "book_in": "program deed"},
     "walker": {"run": "program deed things"},
     "tables": {"tables_of": "program"},
+    "machine": {
+        "start": "program tables deed things", "move": "program tables state", "machine": "program deed things",
+    },
+    "texts": {"shown": "program"},
+    "reader": {"read": "text"},
+    "pressed": {
+        "all_calls": "book", "all_answers": "book", "alike": "book place kind other",
+        "parted": "book place kind other", "pressed": "book", "chosen": "web pressing call",
+        "is_pressed": "book thing",
+    },
 }
 
 
