@@ -4,6 +4,8 @@ import copy
 import itertools
 import random
 
+MOST = 10 ** 30 - 1
+
 
 def nested(depth, wrap, inner):
     """Something nested as deep as told."""
@@ -289,6 +291,130 @@ def plain_run(program, deed, things):
         return (walk.call(deed, things), walk.met)
     except PlainRefusal as refusal:
         return refusal.args
+
+
+def some_labels(web, seed):
+    """Labels of the web's kinds: all alike, all unlike, and between, the same ones each time."""
+    chance = random.Random(seed)
+    count = len(web)
+    rows = [[7] * count, [MOST - number for number in range(count)], [-number for number in range(count)]]
+    for unlike in (2, 2, 3, 4):
+        rows.append([chance.randint(-1, unlike - 2) for _ in range(count)])
+    return rows
+
+
+def some_weights(web, seed):
+    """Weights of the web's kinds: all 0, all 999, and between, the same ones each time."""
+    chance = random.Random(seed)
+    count = len(web)
+    rows = [[0] * count, [999] * count, [number % 2 * 999 for number in range(count)]]
+    return rows + [[chance.randint(0, most) for _ in range(count)] for most in (1, 9, 999)]
+
+
+def plain_led(web, tree, arm):
+    """From the first node, by what the arm stands on, to a label."""
+    number, count = 0, 0
+    while tree[number][0] == "ask":
+        number = tree[number][2] if plain_arm_stands(web, arm, tree[number][1]) else tree[number][3]
+        count += 1
+    return (tree[number][1], count)
+
+
+def plain_nodes_come_to(web, tree):
+    """The numbers of the nodes that some kind comes to."""
+    numbers = set()
+    for kind, _ in web:
+        number = 0
+        numbers.add(0)
+        while tree[number][0] == "ask":
+            number = tree[number][2] if plain_stands(web, kind, tree[number][1]) else tree[number][3]
+            numbers.add(number)
+    return numbers
+
+
+def plain_depth(tree, number=0):
+    """The most questions on any way from this node to a label."""
+    if tree[number][0] == "tell":
+        return 0
+    return 1 + max(plain_depth(tree, tree[number][2]), plain_depth(tree, tree[number][3]))
+
+
+def plain_load(web, tree, weights):
+    return sum(weight * plain_led(web, tree, kind)[1] for weight, (kind, _) in zip(weights, web))
+
+
+def is_plain_number(thing):
+    return type(thing) is int
+
+
+def plain_is_tree(web, thing):
+    """[24] clause by clause, of anything."""
+    if type(thing) is not list or not 1 <= len(thing) <= 60:
+        return False
+    leads = []
+    for number, node in enumerate(thing):
+        if type(node) is not tuple or len(node) not in (2, 4):
+            return False
+        if len(node) == 2 and (node[0] != "tell" or not is_plain_number(node[1]) or abs(node[1]) >= 10 ** 30):
+            return False
+        if len(node) == 4:
+            if node[0] != "ask" or node[1] not in [name for name, _ in web]:
+                return False
+            if any(not is_plain_number(to) or not number < to < len(thing) for to in node[2:]):
+                return False
+            leads += node[2:]
+    return all(leads.count(number) == 1 for number in range(1, len(thing)))
+
+
+def plain_tells(web, labels, thing):
+    if not plain_is_tree(web, thing):
+        return False
+    return all(plain_led(web, thing, kind)[0] == label for (kind, _), label in zip(web, labels))
+
+
+def shifted(tree, by):
+    """The nodes of the tree, numbered from another number on."""
+    return [node if node[0] == "tell" else ("ask", node[1], node[2] + by, node[3] + by) for node in tree]
+
+
+def all_trees(names, labels, asks):
+    """All trees with just so many questions, of these kinds and labels, but for the order of their nodes."""
+    if asks == 0:
+        return [[("tell", label)] for label in labels]
+    told = []
+    for high in range(asks):
+        for yes in all_trees(names, labels, high):
+            for no in all_trees(names, labels, asks - 1 - high):
+                for name in names:
+                    told.append([("ask", name, 1, 1 + len(yes))] + shifted(yes, 1) + shifted(no, 1 + len(yes)))
+    return told
+
+
+def plain_split(web, kinds, asked):
+    """Those of the kinds that stand on the asked one, and those that don't."""
+    those = [kind for kind in kinds if plain_stands(web, kind, asked)]
+    return those, [kind for kind in kinds if kind not in those]
+
+
+def plain_are_kinds(web, thing):
+    """Whether something is a list of names of kinds in the web's order."""
+    names = [name for name, _ in web]
+    if type(thing) is not list or any(part not in names for part in thing):
+        return False
+    ranks = [names.index(part) for part in thing]
+    return all(one < other for one, other in zip(ranks, ranks[1:]))
+
+
+def plain_are_lines(web, thing):
+    """Whether something is a list of (kinds, whole number from 0 on), the first with all kinds."""
+    if type(thing) is not list or not thing:
+        return False
+    for line in thing:
+        if type(line) is not tuple or len(line) != 2 or not plain_are_kinds(web, line[0]):
+            return False
+        if not is_plain_number(line[1]) or line[1] < 0:
+            return False
+    return thing[0][0] == [name for name, _ in web]
 
 
 def some_sorts(web, seed):

@@ -39,6 +39,18 @@ INTERFACE = {
         "parted": "book place kind other", "pressed": "book", "chosen": "web pressing call",
         "is_pressed": "book thing",
     },
+    "walks": {
+        "walk_of": "book order", "walked": "web walk order call", "is_walk": "book order thing", "best_order": "book",
+    },
+    "questions": {
+        "tree_of": "web labels", "depth_of": "tree", "led": "web tree arm", "tells": "web labels thing",
+    },
+    "stubborn": {"stubborn": "web labels", "is_stubborn": "web labels depth paper"},
+    "loads": {
+        "light": "web labels weights", "load_of": "web tree weights", "prices": "web labels weights",
+        "is_prices": "web labels weights paper",
+    },
+    "guides": {"guide_of": "book order", "guided": "web guide call", "is_guide": "book order thing"},
 }
 
 
