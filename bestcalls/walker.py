@@ -38,11 +38,12 @@ def rule_by(deed, kinds, answer):
 
 
 class Walker:
-    """All runs of one asking: those met, the steps begun and the runs that last, so far."""
+    """All runs of one asking: those met, the calls asked, the steps begun and the runs that last, so far."""
 
     def __init__(self, script):
         self.script = script
         self.met = []
+        self.asked = []
         self.begun = 0
         self.lasting = 0
 
@@ -50,6 +51,7 @@ class Walker:
         """The sum of a run of the deed with the things, by the rule that is the answer."""
         kinds = kinds_of(things)
         answer = answer_of(book_in(self.script, deed), kinds)
+        self.asked.append((deed, kinds, answer))
         return self.sum_of_run(deed, things, rule_by(deed, kinds, answer))
 
     def sum_of_onward(self, deed, things, rule):
@@ -86,9 +88,15 @@ class Walker:
         return self.sum_of_onward(deed, things, rule)
 
 
-def run(program, deed, things):
-    """The sum of a run of the deed with the things, and a list of (deed, rule) for each run, as they began."""
+def run_asking(program, deed, things):
+    """What run tells, and a list of (deed, kinds, answer) for each call, as they were asked."""
     check_asked(program, deed, things)
     walker = Walker(program)
     total = walker.sum_of_call(deed, things)
-    return (total, walker.met)
+    return ((total, walker.met), walker.asked)
+
+
+def run(program, deed, things):
+    """The sum of a run of the deed with the things, and a list of (deed, rule) for each run, as they began."""
+    told, asked = run_asking(program, deed, things)
+    return told

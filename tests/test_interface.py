@@ -53,18 +53,36 @@ INTERFACE = {
     "guides": {"guide_of": "book order", "guided": "web guide call", "is_guide": "book order thing"},
 }
 
+CLASSES = {
+    "hall": ("Hall", "kind", {
+        "kind": "name elders", "deed": "name places", "rule": "deed name kinds steps", "drop": "deed name",
+        "unkind": "name", "program": "", "ask": "deed call", "kept": "", "reckoned": "", "run": "deed things",
+    }),
+    "desk": ("Desk", "kind", {"say": "row"}),
+}
+
 
 class TestInterface(unittest.TestCase):
+
+    def assert_arguments(self, function, arguments):
+        parameters = inspect.signature(function).parameters.values()
+        self.assertEqual([one.name for one in parameters], arguments.split(), function)
+        for one in parameters:
+            self.assertEqual(one.kind, inspect.Parameter.POSITIONAL_OR_KEYWORD)
+            self.assertEqual(one.default, inspect.Parameter.empty)
 
     def test_names_and_arguments(self):
         for module, functions in INTERFACE.items():
             loaded = importlib.import_module("bestcalls." + module)
             for name, arguments in functions.items():
-                parameters = inspect.signature(getattr(loaded, name)).parameters.values()
-                self.assertEqual([one.name for one in parameters], arguments.split(), name)
-                for one in parameters:
-                    self.assertEqual(one.kind, inspect.Parameter.POSITIONAL_OR_KEYWORD)
-                    self.assertEqual(one.default, inspect.Parameter.empty)
+                self.assert_arguments(getattr(loaded, name), arguments)
+
+    def test_classes(self):
+        for module, (name, arguments, methods) in CLASSES.items():
+            loaded = getattr(importlib.import_module("bestcalls." + module), name)
+            self.assert_arguments(loaded, arguments)
+            for method, handed in methods.items():
+                self.assert_arguments(getattr(loaded("a"), method), handed)
 
 
 if __name__ == "__main__":
