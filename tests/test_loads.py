@@ -117,7 +117,7 @@ class TestLight(unittest.TestCase, Refusals):
                     met.add(least)
         self.assertGreater(len(met), 50)
 
-    def test_no_tree_at_all_has_a_lesser_load(self):
+    def test_no_tree_of_up_to_three_questions_has_a_lesser_load(self):
         for web in some_webs(12, most=3, seed=82):
             names = [name for name, _ in web]
             for labels in ([0, 1, 2], [0, 0, 1], [0, 1, 0], [1, 0, 0], [4, 4, 4]):

@@ -84,7 +84,7 @@ class TestTreeOf(unittest.TestCase, Refusals):
                 self.assertEqual(depth_of(told), least)
         self.assertGreater(min(met[depth] for depth in range(4)), 20)
 
-    def test_no_tree_at_all_has_a_lesser_depth(self):
+    def test_no_tree_of_up_to_three_questions_has_a_lesser_depth(self):
         for web in some_webs(12, most=3, seed=62):
             names = [name for name, _ in web]
             for labels in ([0, 1, 2], [0, 0, 1], [0, 1, 0], [1, 0, 0], [4, 4, 4]):
